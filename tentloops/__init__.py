@@ -1,0 +1,1 @@
+"""Tentloops: threads on a tent sewn of three-cornered cloths."""
