@@ -1,4 +1,8 @@
-"""All refusals: each is a class of its own, straight under TentError."""
+"""All refusals: each is a class of its own, straight under TentError.
+
+No message tells a number that was handed in: Python refuses to write out very great ones,
+and the refusal would be lost in that.
+"""
 
 
 class TentError(ValueError):

@@ -9,16 +9,16 @@ CONTRARY_WAYS = {"left": "right", "right": "left"}
 def look_way(way):
     """Refuse what is no way of an exchange."""
     if way not in CONTRARY_WAYS:
-        raise NoWay(f"an exchange does not go {way}")
+        raise NoWay("an exchange goes left or right")
 
 
 def look_free(tent, seam):
     """Refuse a seam that cannot be exchanged."""
     sort = tent.sort_of(seam)
     if sort == "rim":
-        raise Rim(f"seam {seam} is a rim")
+        raise Rim("a rim cannot be exchanged")
     if sort == "locked":
-        raise Locked(f"seam {seam} is locked")
+        raise Locked("a locked seam cannot be exchanged")
 
 
 def square(tent, seam):

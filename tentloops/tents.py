@@ -25,10 +25,10 @@ def spots_of(names_at):
     spots = {}
     for place, name in enumerate(names_at):
         if name < 0 or name > GREATEST_NAME:
-            raise NoTent(f"{name} is no seam name")
+            raise NoTent("a seam name is from 0 to 9999")
         spots.setdefault(name, []).append(place)
         if len(spots[name]) > 2:
-            raise NoTent(f"seam {name} stands more than twice")
+            raise NoTent("a seam name stands at most twice")
     return spots
 
 
@@ -65,6 +65,10 @@ class Tent:
         """All seam names, rising."""
         return sorted(self.spots)
 
+    def all_places(self):
+        """All places, rising."""
+        return list(range(len(self.names_at)))
+
     def has_place(self, place):
         """Whether the tent has this place."""
         return 0 <= place < len(self.names_at)
@@ -72,7 +76,7 @@ class Tent:
     def look_place(self, place):
         """Refuse what is no place of the tent."""
         if not self.has_place(place):
-            raise NoPlace(f"{place} is no place of the tent")
+            raise NoPlace("the tent has no such place")
 
     def seam_at(self, place):
         """The seam name at the place."""
@@ -82,7 +86,7 @@ class Tent:
     def places(self, seam):
         """The one or two places of the seam, rising."""
         if seam not in self.spots:
-            raise NoSeam(f"{seam} is no seam of the tent")
+            raise NoSeam("the tent has no such seam")
         return list(self.spots[seam])
 
     def mate(self, place):

@@ -89,6 +89,6 @@ def walked(tent, place, turns):
     for turn in turns:
         entry = tent.mate(way[-1])
         if entry is None:
-            raise Rim(f"the way cannot go on behind the rim place {way[-1]}")
+            raise Rim("the way cannot go on behind a rim")
         way.append(after(entry) if turn == "R" else before(entry))
     return way

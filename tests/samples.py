@@ -1,4 +1,7 @@
-"""Tents that several tests use, with what is known of them by hand."""
+"""Tents, threads and numbers that several tests use."""
+
+from oracles import mate_of, spots
+
 
 # Two cloths, three free seams, one point: every place has a mate.
 TORUS = [(0, 1, 2), (0, 1, 2)]
@@ -15,7 +18,33 @@ BALL = [(1, 1, 2), (2, 4, 4)]
 # Three cloths: seam 6 is free (0 and 5), 8 is free (4 and 6), 9 is locked, 1, 2 and 3 are rims.
 MIXED = [(6, 1, 2), (3, 8, 6), (8, 9, 9)]
 
-ALL = [TORUS, KITE, CONE, BALL, MIXED]
+# One cloth without any sewn seam.
+FLAP = [(3, 1, 2)]
+
+# An eight-cornered cloth cut into six: one point, two handles, no rim.
+PRETZEL = [(0, 1, 4), (4, 0, 5), (5, 1, 6), (6, 2, 7), (7, 3, 8), (8, 2, 3)]
+
+# A five-cornered cloth cut into three: one handle, and seam 9 is the only rim (place 8).
+POUCH = [(0, 1, 4), (4, 0, 5), (5, 1, 9)]
+
+# Three pieces: cloths 0 and 2 like TORUS, cloth 1 a flap, cloth 3 a cone.
+HEAP = [(0, 1, 2), (20, 21, 22), (0, 1, 2), (30, 30, 31)]
+
+WAYS = ("left", "right")
+
+ALL = [TORUS, KITE, CONE, BALL, MIXED, FLAP, PRETZEL, POUCH, HEAP]
+
+
+def dealer(seed):
+    """A plain number sequence: each call tells one from 0 to below the given number."""
+    state = seed
+
+    def deal(below):
+        nonlocal state
+        state = (state * 1103515245 + 12345) & 0x7FFFFFFF
+        return (state >> 8) % below
+
+    return deal
 
 
 def band(count):
@@ -25,11 +54,10 @@ def band(count):
 
 def scattered(seed, count):
     """A tent of so many cloths whose seams lie as a plain number sequence deals them."""
-    state = seed
+    deal = dealer(seed)
     names = [k // 2 for k in range(3 * count)]
     for k in range(len(names) - 1, 0, -1):
-        state = (state * 1103515245 + 12345) & 0x7FFFFFFF
-        other = (state >> 8) % (k + 1)
+        other = deal(k + 1)
         names[k], names[other] = names[other], names[k]
     # Every fifth seam is cut open into two rims.
     seen = set()
@@ -49,18 +77,33 @@ def many_tents():
     return tents
 
 
-def spots(rows):
-    """For each name the places at which it stands, told anew from the rows alone."""
-    found = {}
-    for number, row in enumerate(rows):
-        for at, name in enumerate(row):
-            found.setdefault(name, []).append(3 * number + at)
-    return found
+def free_seams(tent):
+    """The names of all seams that can be exchanged."""
+    return [seam for seam in tent.seams() if tent.sort_of(seam) == "free"]
 
 
-def mate_of(rows, place):
-    """The mate of a place, told anew from the rows alone."""
-    for pair in spots(rows).values():
-        if place in pair and len(pair) == 2:
-            return pair[1 - pair.index(place)]
-    return None
+def wandered(rows, seed, steps=120):
+    """Closed threads: what lies between two crossings of one place on a walk that a sequence deals."""
+    deal = dealer(seed)
+    mates = [mate_of(rows, place) for place in range(3 * len(rows))]
+    starts = [place for place, mate in enumerate(mates) if mate is not None]
+    if not starts:
+        return []
+    way = [starts[deal(len(starts))]]
+    while len(way) < steps:
+        entry = mates[way[-1]]
+        ways_on = [p for p in starts if p // 3 == entry // 3 and p != entry]
+        if not ways_on:
+            break
+        way.append(ways_on[deal(len(ways_on))])
+    ends = [(way.index(way[k]), k) for k in range(len(way)) if way.index(way[k]) < k]
+    return [way[first:last] for first, last in ends[:6] + ends[-2:]]
+
+
+def dealt_counts(rows, seed, many=3):
+    """Numbers that are not refused: the crossings of some threads together, whether these cross or not."""
+    counts = {name: 0 for name in spots(rows)}
+    for word in wandered(rows, seed, 60)[:many]:
+        for place in word:
+            counts[rows[place // 3][place % 3]] += 1
+    return counts

@@ -5,14 +5,9 @@ import unittest
 from tentloops.errors import Locked, NoPlace, NoSeam, NoWay, Rim
 from tentloops.exchange import contrary, driven, exchanged, moved, square, undoing
 from tentloops.tents import Tent
-from samples import ALL, BALL, CONE, KITE, MIXED, TORUS, band, many_tents
+from samples import ALL, BALL, CONE, KITE, MIXED, TORUS, WAYS, band, free_seams, many_tents
 
-WAYS = ("left", "right")
 WRONG_WAYS = ("", "Left", "RIGHT", "l", "up", " left", "left ", "leftright")
-
-
-def free_seams(tent):
-    return [seam for seam in tent.seams() if tent.sort_of(seam) == "free"]
 
 
 def rolled(row, seam):

@@ -80,6 +80,13 @@ class LanguageTest(unittest.TestCase):
             read = {n.id for n in ast.walk(tree) if isinstance(n, ast.Name) and isinstance(n.ctx, ast.Load)}
             self.assertEqual(sorted(read - set(bound) - BUILTINS), [])
 
+    def test_no_refusal_writes_out_what_was_handed_in(self):
+        # A number of more than 4,300 figures cannot be written out, so that another error would come.
+        for text, tree in each():
+            for node in ast.walk(tree):
+                if isinstance(node, ast.Raise) and node.exc is not None:
+                    self.assertEqual([n for n in ast.walk(node) if isinstance(n, ast.JoinedStr)], [], ast.dump(node))
+
     def test_imports_stay_within_the_package(self):
         for text, tree in each():
             for node in ast.walk(tree):

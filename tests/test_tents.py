@@ -4,7 +4,8 @@ import unittest
 
 from tentloops.errors import NoPlace, NoSeam, NoTent
 from tentloops.tents import Tent, after, before
-from samples import BALL, CONE, KITE, MIXED, TORUS, band, many_tents, mate_of, spots
+from oracles import mate_of, spots
+from samples import BALL, CONE, KITE, MIXED, TORUS, band, many_tents
 
 
 class AroundTest(unittest.TestCase):

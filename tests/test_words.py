@@ -6,34 +6,11 @@ import unittest
 from tentloops.errors import NoPlace, NoThread, Rim
 from tentloops.tents import Tent
 from tentloops.words import alike, backward, least, letters, plain, times, turned, walked
-from samples import BALL, CONE, KITE, MIXED, TORUS, band, mate_of, scattered
+from oracles import all_turns, mate_of, plain_by_words, threads_of
+from samples import BALL, CONE, KITE, MIXED, TORUS, band, scattered
 
 SMALL = [TORUS, KITE, CONE, BALL, MIXED, [(1, 2, 1)], scattered(3, 2), scattered(4, 2)]
 LONG = [0, 4] * 998 + [0, 5, 0, 4]
-
-
-def plain_by_words(rows, word):
-    """Point 7, told anew from the rows alone."""
-    if len(word) == 0:
-        return False
-    for k in range(len(word)):
-        if word[k] < 0 or word[k] >= 3 * len(rows) or mate_of(rows, word[k]) is None:
-            return False
-        mate, following = mate_of(rows, word[k]), word[(k + 1) % len(word)]
-        if following == mate or following not in range(mate - mate % 3, mate - mate % 3 + 3):
-            return False
-    return True
-
-
-def all_turns(word):
-    return [word[k:] + word[:k] for k in range(len(word))]
-
-
-def threads_of(rows, longest):
-    """All plain threads up to a length."""
-    places = range(3 * len(rows))
-    words = [list(w) for n in range(1, longest + 1) for w in itertools.product(places, repeat=n)]
-    return [word for word in words if plain_by_words(rows, word)]
 
 
 class PlainTest(unittest.TestCase):
