@@ -1,7 +1,6 @@
 """Tents, threads and numbers that several tests use."""
 
-from oracles import mate_of, spots
-
+from oracles import behind_by_words, free_by_words, mate_of, spots
 
 # Two cloths, three free seams, one point: every place has a mate.
 TORUS = [(0, 1, 2), (0, 1, 2)]
@@ -100,9 +99,25 @@ def wandered(rows, seed, steps=120):
     return [way[first:last] for first, last in ends[:6] + ends[-2:]]
 
 
+def dealt_moves(rows, seed, many):
+    """A row of exchanges that can be done one by one."""
+    deal = dealer(seed)
+    moves = []
+    while len(moves) < many and free_by_words(rows):
+        names = free_by_words(rows)
+        moves.append((names[deal(len(names))], WAYS[deal(2)]))
+        rows = behind_by_words(rows, *moves[-1])
+    return moves
+
+
+def noughts(rows):
+    """Numbers all nought."""
+    return {name: 0 for name in spots(rows)}
+
+
 def dealt_counts(rows, seed, many=3):
     """Numbers that are not refused: the crossings of some threads together, whether these cross or not."""
-    counts = {name: 0 for name in spots(rows)}
+    counts = noughts(rows)
     for word in wandered(rows, seed, 60)[:many]:
         for place in word:
             counts[rows[place // 3][place % 3]] += 1

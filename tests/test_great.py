@@ -1,12 +1,16 @@
-"""Points 3 to 10 with numbers that Python does not write out: the refusal that is due comes all the same."""
+"""Points 3 to 17 with numbers that Python does not write out: the refusal that is due comes all the same."""
 
 import unittest
 
-from tentloops.errors import NoPlace, NoSeam, NoTent, NoThread, NoWay
+from tentloops.counts import flow, led, look_counts, tally, traced
+from tentloops.easing import eased, led_along
+from tentloops.errors import NoCounts, NoPlace, NoSeam, NoTent, NoThread, NoWay, TooMany, Uneven, Wide
 from tentloops.exchange import driven, exchanged, moved, square, undoing
+from tentloops.pulling import pulled, pulled_along
+from tentloops.rounds import about
 from tentloops.tents import Tent, after, before
 from tentloops.words import alike, backward, least, letters, plain, times, turned, walked
-from samples import ALL, TORUS, WAYS
+from samples import ALL, CONE, TORUS, WAYS
 
 GREAT = 10 ** 5000
 NUMBERS = (GREAT, GREAT + 1, -GREAT, 10 ** 4300, -(10 ** 4300))
@@ -58,7 +62,46 @@ class GreatNumbersTest(unittest.TestCase):
                     self.assertRaises(NoThread, ask, tent, word)
                 self.assertRaises(NoThread, alike, tent, word, word)
 
+    def test_no_seam_of_a_thread_or_of_numbers(self):
+        for number in NUMBERS:
+            tent, word, counts = Tent(TORUS), [0, 4], {0: 1, 1: 1, 2: 0}
+            for way in WAYS:
+                self.assertRaises(NoSeam, pulled, tent, number, way, word)
+                self.assertRaises(NoSeam, pulled_along, tent, [(0, way), (number, way)], word)
+                self.assertRaises(NoSeam, led_along, tent, [(0, way), (number, way)], counts)
+            self.assertRaises(NoSeam, led, tent, counts, number)
+
+    def test_no_thread_for_pulling_and_counting(self):
+        for number in NUMBERS:
+            for word in ([number], [0, number], [number, 4]):
+                self.assertRaises(NoThread, pulled, Tent(TORUS), 0, "left", word)
+                self.assertRaises(NoThread, pulled_along, Tent(TORUS), [], word)
+                self.assertRaises(NoThread, tally, Tent(TORUS), word)
+                self.assertRaises(NoThread, flow, Tent(TORUS), word)
+
+    def refuse_counts(self, kind, counts):
+        for ask in (look_counts, traced, eased):
+            self.assertRaises(kind, ask, Tent(TORUS), counts)
+        self.assertRaises(kind, led, Tent(TORUS), counts, 0)
+        self.assertRaises(kind, led_along, Tent(TORUS), [(9, "up")], counts)
+
+    def test_refusals_of_numbers(self):
+        for number in NUMBERS:
+            self.refuse_counts(NoCounts, {0: 0, 1: 0, number: 0})
+            self.refuse_counts(NoCounts, {0: 0, 1: 0, 2: 0, number: number})
+        self.refuse_counts(NoCounts, {0: -GREAT, 1: GREAT, 2: 0})
+        self.refuse_counts(Uneven, {0: GREAT, 1: GREAT, 2: 1})
+        self.refuse_counts(Wide, {0: GREAT, 1: GREAT + 2, 2: 0})
+        self.assertRaises(NoCounts, look_counts, Tent(CONE), {5: 0, 7: GREAT})
+        for ask in (traced, eased):
+            self.assertRaises(TooMany, ask, Tent(TORUS), {0: GREAT, 1: GREAT, 2: 0})
+
+    def test_no_corner(self):
+        for tent, number in each():
+            self.assertRaises(NoPlace, about, tent, number)
+
     def test_what_is_not_refused(self):
+        self.assertTrue(led(Tent(TORUS), {0: GREAT, 1: GREAT, 2: 0}, 2) == {0: GREAT, 1: GREAT, 2: 2 * GREAT})
         self.assertEqual((after(3 * GREAT), after(3 * GREAT + 2)), (3 * GREAT + 1, 3 * GREAT))
         self.assertEqual((before(3 * GREAT), before(3 * GREAT + 2)), (3 * GREAT + 2, 3 * GREAT + 1))
         self.assertEqual((turned([1, 2], GREAT + 1), turned([1, 2], -GREAT)), ([2, 1], [1, 2]))

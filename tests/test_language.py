@@ -1,6 +1,7 @@
 """The rules of the language that can be read off the files of the package."""
 
 import ast
+import builtins
 import pathlib
 import re
 import unittest
@@ -21,6 +22,12 @@ BARRED_NODES = (
     ast.GeneratorExp, ast.With, ast.Match, ast.Global, ast.Nonlocal, ast.Yield, ast.YieldFrom, ast.NamedExpr,
     ast.AsyncFunctionDef, ast.Await, ast.Import, ast.Div,
 )
+BARRED_NAMES = (
+    "register mro elements open input version_info with_traceback add_note attrgetter breakpoint compile copyright "
+    "credits delattr dir eval exec exit gc getattr globals hasattr help id importlib license locals methodcaller os "
+    "quit setattr super vars sys"
+).split()
+MODULES = "__init__ counts easing errors exchange pulling rounds tents words".split()
 TOP_NODES = (ast.ImportFrom, ast.FunctionDef, ast.ClassDef, ast.Assign)
 
 
@@ -32,6 +39,18 @@ def bound_names(tree):
     return names + [alias.name for node in ast.walk(tree) if isinstance(node, ast.ImportFrom) for alias in node.names]
 
 
+def local_names(tree):
+    """All names that the functions of a file give to something within them."""
+    functions = [node for node in ast.walk(tree) if isinstance(node, ast.FunctionDef)]
+    return [name for one in functions for name in bound_names(one) if name != one.name]
+
+
+def imported(tree):
+    """The modules from which a file imports, with the names."""
+    nodes = [node for node in ast.walk(tree) if isinstance(node, ast.ImportFrom)]
+    return [(node.module.split(".")[-1], alias) for node in nodes for alias in node.names]
+
+
 def each():
     """Each file's text and its tree."""
     texts = [path.read_text(encoding="utf-8") for path in FILES]
@@ -41,7 +60,7 @@ def each():
 class LanguageTest(unittest.TestCase):
 
     def test_there_are_files(self):
-        self.assertLessEqual({"__init__.py", "errors.py", "exchange.py", "tents.py", "words.py"}, {p.name for p in FILES})
+        self.assertLessEqual(set(MODULES), {path.stem for path in FILES})
 
     def test_only_py_files(self):
         others = [p.name for p in PACKAGE.iterdir() if p not in FILES and p.name != "__pycache__"]
@@ -79,6 +98,30 @@ class LanguageTest(unittest.TestCase):
             self.assertEqual([name for name in bound if name in BUILTINS], [])
             read = {n.id for n in ast.walk(tree) if isinstance(n, ast.Name) and isinstance(n.ctx, ast.Load)}
             self.assertEqual(sorted(read - set(bound) - BUILTINS), [])
+
+    def test_names_keep_one_meaning(self):
+        for text, tree in each():
+            kept = {alias.name for module, alias in imported(tree)}
+            kept |= {node.name for node in tree.body if isinstance(node, ast.ClassDef)} | set(dir(builtins))
+            self.assertEqual([name for name in local_names(tree) if name in kept], [])
+            self.assertEqual([name for name in bound_names(tree) if name in BARRED_NAMES], [])
+            tops = [name for node in tree.body for name in bound_names(ast.Module([node], []))
+                    if not isinstance(node, (ast.FunctionDef, ast.ClassDef))]
+            tops += [node.name for node in tree.body if isinstance(node, (ast.FunctionDef, ast.ClassDef))]
+            self.assertEqual(sorted(tops), sorted(set(tops)))
+
+    def test_imports_name_the_file_that_defines_and_make_no_circle(self):
+        trees = {path.stem: tree for path, (text, tree) in zip(FILES, each())}
+        needs = {}
+        for name, tree in trees.items():
+            needs[name] = {module for module, alias in imported(tree)}
+            for module, alias in imported(tree):
+                self.assertIsNone(alias.asname)
+                self.assertIn(alias.name, [getattr(node, "name", None) for node in trees[module].body])
+        while needs:
+            ready = [name for name in needs if not needs[name]]
+            self.assertTrue(ready, needs)
+            needs = {name: needs[name] - set(ready) for name in needs if name not in ready}
 
     def test_no_refusal_writes_out_what_was_handed_in(self):
         # A number of more than 4,300 figures cannot be written out, so that another error would come.
