@@ -1,5 +1,6 @@
 """The document's points told anew, from the rows of a tent alone and by no function of the program."""
 
+import fractions
 import itertools
 
 
@@ -151,3 +152,91 @@ def eased_by_words(rows, counts):
 def following_by_words(rows, corner):
     """Point 17: the corner that follows."""
     return mate_of(rows, around(corner, 1))
+
+
+def sewn_by_words(rows):
+    """Point 3: the sewn seams, rising."""
+    return sorted(name for name, places in spots(rows).items() if len(places) == 2)
+
+
+def as_fractions(worths):
+    """Pairs as fractions of Python's own."""
+    return {name: fractions.Fraction(*pair) for name, pair in worths.items()}
+
+
+def as_pairs(worths):
+    """Fractions of Python's own as pairs in lowest terms."""
+    return {name: (one.numerator, one.denominator) for name, one in worths.items()}
+
+
+def stretched_by_words(rows, worths, seam):
+    """Point 21, with fractions of Python's own."""
+    told = as_fractions(worths)
+    z = told[seam]
+    for place, factor in zip(square_by_words(rows, seam), (1 + z, z / (1 + z), 1 + z, z / (1 + z))):
+        name = rows[place // 3][place % 3]
+        if len(spots(rows)[name]) == 2:
+            told[name] *= factor
+    told[seam] = 1 / z
+    return as_pairs(told)
+
+
+def worth_by_words(rows, worths, word):
+    """Point 22, with the whole table and its determinant."""
+    table = [[1, 0], [0, 1]]
+    for k, place in enumerate(word):
+        t, u = worths[rows[place // 3][place % 3]]
+        for row in table:
+            row[0], row[1] = row[0] * t, row[1] * u
+        entry, following = mate_of(rows, place), word[(k + 1) % len(word)]
+        for row in table:
+            if following == around(entry, 1):
+                row[0] += row[1]
+            else:
+                row[1] += row[0]
+    (a, b), (c, d) = table
+    told = fractions.Fraction((a + d) ** 2, a * d - b * c)
+    return (told.numerator, told.denominator)
+
+
+def lies_well(one, other, goals):
+    """Point 23: whether the list lays the one tent on the other."""
+    places = range(3 * len(one))
+    if sorted(goals) != list(range(3 * len(other))) or len(goals) != len(places):
+        return False
+    for place in places:
+        mate, goal_mate = mate_of(one, place), mate_of(other, goals[place])
+        if goals[around(place, 1)] != around(goals[place], 1) or (mate is None) != (goal_mate is None):
+            return False
+        if mate is not None and goals[mate] != goal_mate:
+            return False
+    return True
+
+
+def matched_by_trying(one, other):
+    """Point 23: the first list that lays well, of all that place cloth behind cloth in each way."""
+    if len(one) != len(other):
+        return None
+    mates = [mate_of(one, place) for place in range(3 * len(one))]
+    goal_mates = [mate_of(other, place) for place in range(3 * len(other))]
+
+    def fits(goals):
+        for place, goal in enumerate(goals):
+            if (mates[place] is None) != (goal_mates[goal] is None):
+                return False
+            if mates[place] is not None and mates[place] < len(goals) and goals[mates[place]] != goal_mates[goal]:
+                return False
+        return True
+
+    def go_on(goals):
+        if len(goals) == len(mates):
+            return goals
+        for goal in range(len(mates)):
+            longer = goals + [goal, around(goal, 1), around(goal, 2)]
+            if goal not in goals and fits(longer):
+                told = go_on(longer)
+                if told is not None:
+                    return told
+        return None
+
+    return go_on([])

@@ -122,3 +122,27 @@ def dealt_counts(rows, seed, many=3):
         for place in word:
             counts[rows[place // 3][place % 3]] += 1
     return counts
+
+
+def laid_otherwise(rows, seed):
+    """The same tent with its cloths in another order, each turned, and its seams under other names."""
+    deal = dealer(seed)
+    order = list(range(len(rows)))
+    for k in range(len(order) - 1, 0, -1):
+        other = deal(k + 1)
+        order[k], order[other] = order[other], order[k]
+    names = sorted(spots(rows))
+    others = {name: 7 + 3 * ((k * 37 + seed) % 1009) for k, name in enumerate(names)}
+    told = []
+    for number in order:
+        by = deal(3)
+        row = [others[name] for name in rows[number]]
+        told.append(tuple(row[by:] + row[:by]))
+    return told
+
+
+def dealt_worths(rows, seed, below=40):
+    """Fractions of a tent, some of them not in their lowest terms."""
+    deal = dealer(seed)
+    names = [name for name, places in spots(rows).items() if len(places) == 2]
+    return {name: (deal(below) + 1, deal(below) + 1) for name in names}

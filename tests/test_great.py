@@ -1,16 +1,23 @@
-"""Points 3 to 17 with numbers that Python does not write out: the refusal that is due comes all the same."""
+"""Points 3 to 30 with numbers that Python does not write out: the refusal that is due comes all the same."""
 
 import unittest
 
+from tentloops.book import answered, read, written
 from tentloops.counts import flow, led, look_counts, tally, traced
 from tentloops.easing import eased, led_along
-from tentloops.errors import NoCounts, NoPlace, NoSeam, NoTent, NoThread, NoWay, TooMany, Uneven, Wide
+from tentloops.errors import (
+    BadOrder, NoCounts, NoFraction, NoPlace, NoSeam, NoTent, NoThread, NoWay, NoWorths, NotAlike, TooGreat, TooMany,
+    Uneven, Wide,
+)
 from tentloops.exchange import driven, exchanged, moved, square, undoing
+from tentloops.hall import Hall
+from tentloops.matching import carried
 from tentloops.pulling import pulled, pulled_along
 from tentloops.rounds import about
+from tentloops.stretch import even_worths, fraction, stretched, worth
 from tentloops.tents import Tent, after, before
 from tentloops.words import alike, backward, least, letters, plain, times, turned, walked
-from samples import ALL, CONE, TORUS, WAYS
+from samples import ALL, BALL, CONE, TORUS, WAYS
 
 GREAT = 10 ** 5000
 NUMBERS = (GREAT, GREAT + 1, -GREAT, 10 ** 4300, -(10 ** 4300))
@@ -106,6 +113,84 @@ class GreatNumbersTest(unittest.TestCase):
         self.assertEqual((before(3 * GREAT), before(3 * GREAT + 2)), (3 * GREAT + 2, 3 * GREAT + 1))
         self.assertEqual((turned([1, 2], GREAT + 1), turned([1, 2], -GREAT)), ([2, 1], [1, 2]))
         self.assertEqual(undoing([(GREAT, "left")]), [(GREAT, "right")])
+
+    def test_refusals_of_fractions(self):
+        tent = Tent(TORUS)
+        for number in NUMBERS:
+            self.assertRaises(NoSeam, stretched, tent, {}, number)
+            self.assertRaises(NoThread, worth, tent, {}, [0, number])
+            for ask, more in ((stretched, 0), (worth, [0, 4])):
+                self.assertRaises(NoWorths, ask, tent, {**even_worths(tent), number: (1, 1)}, more)
+                self.assertRaises(NoWorths, ask, tent, {0: (number, number)}, more)
+            # abs: a great part is not refused, but one below 1 is.
+            for pair in ((-abs(number), 1), (1, -abs(number)), (abs(number), 0), (-abs(number), -abs(number))):
+                self.assertRaises(NoFraction, fraction, *pair)
+                self.assertRaises(NoFraction, stretched, tent, {**even_worths(tent), 2: pair}, 0)
+                self.assertRaises(NoFraction, worth, tent, {**even_worths(tent), 2: pair}, [0, 4])
+
+    def test_carried(self):
+        for number in NUMBERS:
+            self.assertRaises(NoPlace, carried, Tent(TORUS), Tent(TORUS), [number])
+            self.assertRaises(NotAlike, carried, Tent(TORUS), Tent(BALL), [number])
+
+    def test_refusals_of_a_hall(self):
+        for number in NUMBERS:
+            self.assertRaises(NoTent, Hall, [(0, 1, number)])
+            hall = Hall(TORUS)
+            self.assertRaises(NoThread, hall.lay, "a", [0, number])
+            self.assertRaises(NoCounts, hall.pour, "a", {0: 0, 1: 0, 2: 0, number: number})
+            self.assertRaises(NoSeam, hall.weigh, number, number, number)
+            self.assertRaises(NoSeam, hall.turn, number, "left")
+            self.assertRaises(NoWay, hall.turn, number, "up")
+            self.assertRaises(NoFraction, hall.weigh, 0, -abs(number), abs(number))
+            self.assertRaises(TooGreat, hall.weigh, 0, abs(number), 1)
+            self.assertEqual(hall.deeds(), [])
+        self.assertRaises(Uneven, Hall(TORUS).pour, "a", {0: GREAT, 1: GREAT, 2: 1})
+        self.assertRaises(Wide, Hall(TORUS).pour, "a", {0: GREAT, 1: 0, 2: 0})
+
+    def test_what_a_hall_does_not_refuse(self):
+        hall = Hall(TORUS)
+        hall.weigh(0, 2 * GREAT, 3 * GREAT)
+        hall.pour("a", {0: GREAT, 1: GREAT, 2: 0})
+        hall.turn(2, "left")
+        self.assertTrue(hall.pool("a") == {0: GREAT, 1: GREAT, 2: 2 * GREAT})
+        self.assertRaises(TooMany, hall.pool_threads, "a")
+        noughts = "0" * 5000
+        self.assertEqual(answered(hall, "numbers"), f"0:1{noughts} 1:1{noughts} 2:2{noughts}")
+        self.assertEqual(hall.deeds()[1], f"pour a 0:1{noughts} 1:1{noughts} 2:0")
+
+    def test_texts(self):
+        noughts = "0" * 5000
+        for order in (f"lay a 1{noughts}", f"pour a 1{noughts}:0", f"pour a 0:1{noughts}", f"weigh 1{noughts} 1/1",
+                      f"weigh 0 1{noughts}/1", f"weigh 0 1/1{noughts}", f"turn 1{noughts} left",
+                      f"cloth 0 1 1{noughts}"):
+            self.assertRaises(BadOrder, answered, Hall(TORUS), order)
+            self.assertRaises(BadOrder, read, "cloth 0 1 2\nlift a\n" + order)
+            self.assertRaises(BadOrder, read, order)
+
+    def test_numbers_that_grow_by_turning(self):
+        # Weighing keeps the fractions small, so that a family can be turned as often as one likes.
+        hall = Hall(TORUS)
+        hall.pour("a", {0: 10 ** 61 - 1, 1: 10 ** 61 - 1, 2: 0})
+        while max(hall.pool("a").values()) < 10 ** 4400:
+            for seam in (2, 0, 1):
+                hall.turn(seam, "left")
+                for name in (0, 1, 2):
+                    hall.weigh(name, 1, 1)
+        told = hall.pool("a")
+        text = answered(hall, "pool a")
+        numbers = [pair.split(":")[1] for pair in text.split(" ")]
+        # Read by parts, for Python does not read so many figures at once either.
+        self.assertTrue([by_parts(number) for number in numbers] == [told[0], told[1], told[2]])
+        self.assertEqual(written(read(written(hall))), written(hall))
+
+
+def by_parts(text):
+    """The number of so many figures."""
+    number = 0
+    for k in range(0, len(text), 50):
+        number = number * 10 ** len(text[k:k + 50]) + int(text[k:k + 50])
+    return number
 
 
 if __name__ == "__main__":

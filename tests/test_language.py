@@ -27,7 +27,14 @@ BARRED_NAMES = (
     "credits delattr dir eval exec exit gc getattr globals hasattr help id importlib license locals methodcaller os "
     "quit setattr super vars sys"
 ).split()
-MODULES = "__init__ counts easing errors exchange pulling rounds tents words".split()
+MODULES = (
+    "__init__ book counts easing errors exchange hall matching pulling rounds stretch tents texts words"
+).split()
+FIRST_METHODS = (
+    "append clear copy count endswith extend find get index insert isalnum isalpha isdigit islower isspace isupper "
+    "items join keys ljust lower lstrip partition pop remove replace reverse rfind rjust rpartition rsplit rstrip "
+    "setdefault split splitlines startswith strip update upper values zfill bit_length add"
+).split()
 TOP_NODES = (ast.ImportFrom, ast.FunctionDef, ast.ClassDef, ast.Assign)
 
 
@@ -129,6 +136,26 @@ class LanguageTest(unittest.TestCase):
             for node in ast.walk(tree):
                 if isinstance(node, ast.Raise) and node.exc is not None:
                     self.assertEqual([n for n in ast.walk(node) if isinstance(n, ast.JoinedStr)], [], ast.dump(node))
+
+    def test_methods_and_attributes_have_names_of_their_own(self):
+        classes = [node for text, tree in each() for node in tree.body if isinstance(node, ast.ClassDef)]
+        methods = [part.name for one in classes for part in one.body if isinstance(part, ast.FunctionDef)]
+        nodes = [node for text, tree in each() for node in ast.walk(tree) if isinstance(node, ast.Attribute)]
+        assigned = {node.attr for node in nodes if isinstance(node.ctx, ast.Store)}
+        self.assertEqual(sorted(assigned & set(methods)), [])
+        own = [name for name in methods if name != "__init__"]
+        self.assertEqual(sorted(own), sorted(set(own)))
+        for kind in (str, int, list, dict, set, bytes, tuple):
+            self.assertEqual(sorted((assigned | set(own)) & set(dir(kind))), [])
+        others = {node.attr for node in nodes} - assigned - set(own) - set(FIRST_METHODS)
+        self.assertEqual(sorted(others), [])
+
+    def test_powers_are_written_out(self):
+        for text, tree in each():
+            for node in ast.walk(tree):
+                if isinstance(node, ast.BinOp) and isinstance(node.op, ast.Pow):
+                    self.assertIsInstance(node.right, ast.Constant)
+                    self.assertIn(node.right.value, range(65))
 
     def test_imports_stay_within_the_package(self):
         for text, tree in each():
