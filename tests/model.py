@@ -5,25 +5,12 @@ from fractions import Fraction
 from tentloops import errors
 from tentloops.hall import Hall
 from oracles import (
-    behind_by_words, free_by_words, least_by_turns, number_by_words, plain_by_words, pulled_by_words, sewn_by_words,
-    spots, stretched_by_words, tally_by_words, worth_by_words,
+    behind_by_words, free_by_words, least_by_turns, number_by_words, plain_by_words, pulled_by_words,
+    refusal_by_words, sewn_by_words, spots, stretched_by_words, tally_by_words, worth_by_words,
 )
 from samples import TORUS, WAYS, dealt_counts, wandered
 
 LIMIT = 10 ** 60
-
-
-def counts_refusal(rows, counts):
-    """Point 13: the class of the refusal, or None."""
-    pairs = spots(rows)
-    if set(counts) != set(pairs) or any(n < 0 or n > 0 and len(pairs[s]) == 1 for s, n in counts.items()):
-        return errors.NoCounts
-    triples = [[counts[name] for name in row] for row in rows]
-    if any((x + y + z) % 2 for x, y, z in triples):
-        return errors.Uneven
-    if any(x > y + z or y > x + z or z > x + y for x, y, z in triples):
-        return errors.Wide
-    return None
 
 
 def name_refusal(state, name):
@@ -78,7 +65,7 @@ def tried(state, deed):
         return (why, {**state, "threads": {**state["threads"], name: word}})
     if verb == "pour":
         name, counts = parts
-        why = name_refusal(state, name) or counts_refusal(rows, counts)
+        why = name_refusal(state, name) or refusal_by_words(rows, counts)
         return (why, {**state, "pools": {**state["pools"], name: counts}})
     if verb == "lift":
         name = parts[0]

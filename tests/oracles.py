@@ -3,6 +3,8 @@
 import fractions
 import itertools
 
+from tentloops.errors import NoCounts, Uneven, Wide
+
 
 def spots(rows):
     """For each name the places at which it stands, told anew from the rows alone."""
@@ -104,6 +106,19 @@ def pulled_by_words(rows, seam, way, word):
 def tally_by_words(rows, word):
     """Point 13."""
     return {name: sum(word.count(place) for place in spots(rows)[name]) for name in spots(rows)}
+
+
+def refusal_by_words(rows, counts):
+    """Point 13: the class of the refusal, or None."""
+    pairs = spots(rows)
+    if set(counts) != set(pairs) or any(n < 0 or n > 0 and len(pairs[s]) == 1 for s, n in counts.items()):
+        return NoCounts
+    triples = [[counts[name] for name in row] for row in rows]
+    if any((x + y + z) % 2 for x, y, z in triples):
+        return Uneven
+    if any(x > y + z or y > x + z or z > x + y for x, y, z in triples):
+        return Wide
+    return None
 
 
 def number_by_words(rows, counts, seam):

@@ -10,7 +10,9 @@ from tentloops.exchange import exchanged
 from tentloops.pulling import pulled
 from tentloops.tents import Tent
 from tentloops.words import backward, least
-from oracles import family_by_arcs, mate_of, number_by_words, plain_by_words, spots, tally_by_words
+from oracles import (
+    family_by_arcs, mate_of, number_by_words, plain_by_words, refusal_by_words, spots, tally_by_words,
+)
 from samples import (
     ALL, BALL, CONE, FLAP, HEAP, KITE, MIXED, POUCH, PRETZEL, TORUS, WAYS, band, dealt_counts, free_seams, many_tents,
     noughts, scattered, wandered,
@@ -19,19 +21,6 @@ from samples import (
 TOP = 10 ** 61 - 1
 TORUS_AGAIN = [(10, 11, 12), (10, 11, 12)]
 SMALL = [TORUS, CONE, BALL, MIXED, POUCH, KITE, FLAP, [(1, 4, 2), (2, 4, 1)], scattered(3, 2)]
-
-
-def refusal_by_words(rows, counts):
-    """Point 13: the class of the refusal, or None."""
-    pairs = spots(rows)
-    if set(counts) != set(pairs) or any(n < 0 or n > 0 and len(pairs[s]) == 1 for s, n in counts.items()):
-        return NoCounts
-    triples = [[counts[name] for name in row] for row in rows]
-    if any((x + y + z) % 2 for x, y, z in triples):
-        return Uneven
-    if any(x > y + z or y > x + z or z > x + y for x, y, z in triples):
-        return Wide
-    return None
 
 
 def all_counts(rows, least_number, most):
